@@ -1,0 +1,1 @@
+"""Wirewatch: circuits with pattern machines on their wires."""
