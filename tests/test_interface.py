@@ -28,7 +28,54 @@ HEADINGS = {
         "find_order": "(net)", "is_order": "(net, order)", "find_ring": "(net)",
         "is_ring": "(net, ring)", "check_sound": "(net)", "depths": "(net)",
     },
+    "logic": {
+        "evaluate": "(net, row, state=())", "next_state": "(net, row, state=())",
+        "output_row": "(net, row, state=())", "wire_table": "(net, wire)",
+        "difference": "(first, second)", "is_difference": "(first, second, row, state)",
+    },
+    "diagrams": {
+        "is_diagram": "(count, diagram)", "diagram_of": "(table)",
+        "diagram_table": "(count, diagram)", "diagram_value": "(row, diagram)",
+        "combine": "(count, op, first, second)", "restrict": "(count, diagram, index, bit)",
+        "count_ones": "(count, diagram)", "least_row": "(count, diagram)",
+        "canonical_net": "(net, *, name='n')",
+    },
+    "steps": {
+        "local_table": "(net, wire)", "steps": "(net)", "apply_step": "(net, step)",
+        "price": "(net)",
+    },
+    "rewrite": {
+        "apply_chain": "(net, chain)", "trail": "(net, chain)",
+        "is_chain": "(net, chain, result)", "is_settled": "(net)",
+        "rewrite": "(net, *, limit=400)",
+    },
+    "runs": {"run": "(net, stimulus, *, state=None)", "Simulator": "(net, *, state=None)"},
 }
+
+METHODS = {
+    "words.Word": {
+        "from_row": "(row)", "piece": "(self, start, count)", "above": "(self, low)",
+        "with_bit": "(self, index, bit)",
+    },
+    "runs.Run": {"at": "(self, tick)", "state_at": "(self, tick)", "view": "(self, names)"},
+    "runs.Simulator": {
+        "put": "(self, state)", "step": "(self, row)", "peek": "(self, row, wire)",
+        "back": "(self, count)",
+    },
+}
+# Each of these is defined in the class itself, as the methods above are.
+OWN = {
+    "words.Word": ("ones", "__and__", "__or__", "__xor__", "__add__", "__sub__", "__invert__",
+                   "__lshift__", "__rshift__", "__eq__", "__ne__", "__len__", "__getitem__",
+                   "__iter__", "__str__"),
+    "runs.Run": ("last_state", "__len__", "__iter__", "__getitem__"),
+    "runs.Simulator": ("state", "tick"),
+}
+
+
+def class_of(place):
+    file, _, name = place.partition(".")
+    return getattr(importlib.import_module(f"wirewatch.{file}"), name)
 
 
 class InterfaceTest(unittest.TestCase):
@@ -41,12 +88,22 @@ class InterfaceTest(unittest.TestCase):
                     self.assertEqual(str(inspect.signature(value)), heading)
                     self.assertEqual(value.__module__, module.__name__)
 
-    def test_methods_of_words(self):
-        word = importlib.import_module("wirewatch.words").Word
-        headings = {"from_row": "(row)", "piece": "(self, start, count)", "above": "(self, low)",
-                    "with_bit": "(self, index, bit)"}
-        for name, heading in headings.items():
-            self.assertEqual(str(inspect.signature(getattr(word, name))), heading)
+    def test_methods(self):
+        for place, headings in METHODS.items():
+            for name, heading in headings.items():
+                with self.subTest(f"{place}.{name}"):
+                    value = getattr(class_of(place), name)
+                    self.assertEqual(str(inspect.signature(value)), heading)
+
+    def test_methods_stand_in_their_classes(self):
+        for place, names in OWN.items():
+            for name in (*names, *METHODS[place]):
+                self.assertIn(name, vars(class_of(place)), place)
+
+    def test_properties(self):
+        for place, name in (("words.Word", "ones"), ("runs.Run", "last_state"),
+                            ("runs.Simulator", "state"), ("runs.Simulator", "tick")):
+            self.assertIsInstance(vars(class_of(place))[name], property)
 
 
 if __name__ == "__main__":

@@ -2,6 +2,7 @@
 
 from wirewatch.design import check_design
 from wirewatch.errors import TooLarge, UnknownName
+from wirewatch.nets import CONSTANTS
 
 MOST_PARTS = 200
 
@@ -46,7 +47,7 @@ def reg_parts(item, prefix):
         gates.append((f"{wire}.hold", "mux", (f"{prefix}{when}", wire, source)))
         source = f"{wire}.hold"
     if clear is not None:
-        gates.append((f"{wire}.first", "one" if first == 1 else "zero", ()))
+        gates.append((f"{wire}.first", CONSTANTS[first], ()))
         args = (f"{prefix}{clear}", source, f"{wire}.first")
         gates.append((f"{wire}.clear", "mux", args))
         source = f"{wire}.clear"

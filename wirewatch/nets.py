@@ -1,6 +1,6 @@
 """Names, wires, gates and nets (points 11 to 15)."""
 
-from wirewatch.errors import BadName, BadNet, BadRow, UnknownWire
+from wirewatch.errors import BadName, BadNet, BadRow, NameTaken, UnknownWire
 from wirewatch.rows import row_number
 
 LETTERS = "abcdefghijklmnopqrstuvwxyz"
@@ -8,6 +8,9 @@ DIGITS = "0123456789"
 MOST_SIGNS = 8
 
 OP_COUNTS = {"zero": 0, "one": 0, "buf": 1, "not": 1, "and": 2, "or": 2, "xor": 2, "mux": 3}
+
+# The op of a gate that has always the value 0, and 1.
+CONSTANTS = ("zero", "one")
 
 # For each op its values at all rows of its arguments, ascending.
 OP_BITS = {
@@ -137,11 +140,28 @@ def users(net, wire):
     return tuple(found + [reg for reg, _, source in regs if source == wire])
 
 
+def check_declared(net, wire):
+    """Raises UnknownWire if the wire is not declared in the net."""
+    if wire not in declared_wires(net):
+        raise UnknownWire(wire)
+
+
+def is_among(name, names):
+    """True if one of the wires `names` is the name or begins with it and a dot, otherwise False."""
+    return any([wire == name or wire.startswith(f"{name}.") for wire in names])
+
+
 def is_taken(net, name):
     """True if the name is taken in the net, otherwise False."""
     declared = wires(net)
     check_name(name)
-    return any([wire == name or wire.startswith(f"{name}.") for wire in declared])
+    return is_among(name, declared)
+
+
+def check_free(net, name):
+    """Raises NameTaken if the name is taken in the net."""
+    if is_taken(net, name):
+        raise NameTaken(name)
 
 
 def prefixed(name, names):

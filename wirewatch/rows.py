@@ -1,10 +1,37 @@
 """Rows of bits, and tables over rows (points 7 and 10)."""
 
 from wirewatch.errors import BadIndex, BadRow, BadTable, TooLarge
-from wirewatch.words import Word, bits_number
+from wirewatch.words import Word, bits_number, full_value
 
 MOST_INPUTS = 8
 TABLE_INPUTS = {1: 0, 2: 1, 4: 2, 8: 3, 16: 4, 32: 5, 64: 6, 128: 7, 256: 8}
+
+
+def check_row(row, count):
+    """Raises BadRow if the row does not have `count` bits. It may be longer than a word."""
+    if len(row) != count or not all([bit in (0, 1) for bit in row]):
+        raise BadRow(row)
+
+
+def check_rows(rows, count):
+    """Raises BadRow for the first of the rows that does not have `count` bits."""
+    for row in rows:
+        check_row(row, count)
+
+
+def input_word(index, count):
+    """The value of the table of `count` inputs that shows input `index`.
+
+    Its bits stand in turn in `block` zeros and `block` ones. The quotient has
+    the ones in the places of the zeros: times `2 ** block + 1` it is full.
+    """
+    block = 1 << index
+    return full_value(1 << count) // ((1 << block) + 1) << block
+
+
+def lowest_one(value):
+    """The index of the lowest bit 1 of a positive integer."""
+    return (value & -value).bit_length() - 1
 
 
 def row_number(row):
