@@ -12,6 +12,7 @@ METHODS = set("""append clear copy count endswith extend find get index insert i
     isdigit islower isspace isupper items join keys ljust lower lstrip partition pop remove replace
     reverse rfind rjust rpartition rsplit rstrip setdefault split splitlines startswith strip update
     upper values zfill bit_length add discard""".split())
+NO_ATTRIBUTES = METHODS - set("count index title find get join lower upper split strip copy add".split())
 BARRED = (ast.AsyncFunctionDef, ast.Await, ast.Global, ast.Div, ast.GeneratorExp,
           ast.Yield, ast.YieldFrom, ast.Try, ast.AnnAssign, ast.SetComp)
 WORDS = set("""type typing enum Enum Flag Generic Protocol ABC dataclass overload eval exec open
@@ -114,6 +115,24 @@ class FormTest(unittest.TestCase):
                     self.assertNotIn(node.arg, known | WORDS, name)
                 if isinstance(node, ast.Call) and isinstance(node.func, ast.Attribute):
                     self.assertIn(node.func.attr, METHODS | own_methods, name)
+
+    def test_attributes(self):
+        """No attribute has the name of a property, or of a method of its class."""
+        properties, assigned = set(), set()
+        for name, tree in trees():
+            for part in tree.body:
+                if not isinstance(part, ast.ClassDef):
+                    continue
+                methods = {node.name for node in functions(part)}
+                own = {node.attr for node in ast.walk(part)
+                       if isinstance(node, ast.Attribute) and isinstance(node.ctx, ast.Store)}
+                self.assertFalse(methods & own, (name, part.name))
+                self.assertFalse(own & NO_ATTRIBUTES, (name, part.name))
+                assigned |= own
+                properties |= {node.name for node in functions(part)
+                               if any(ast.unparse(mark) == "property" for mark in node.decorator_list)}
+        self.assertIn("last_state", properties)
+        self.assertFalse(properties & assigned)
 
     def test_each_name_is_bound_once(self):
         for name, tree in trees():

@@ -50,6 +50,21 @@ HEADINGS = {
         "rewrite": "(net, *, limit=400)",
     },
     "runs": {"run": "(net, stimulus, *, state=None)", "Simulator": "(net, *, state=None)"},
+    "timing": {
+        "with_enable": "(net, name)", "with_reset": "(net, name)", "unroll": "(net, ticks)",
+        "after_row": "(net, row)", "add_delay": "(net, wire, count, name)",
+    },
+    "joining": {
+        "join_nets": "(first, second)", "with_outputs": "(net, names)", "cone": "(net, names)",
+        "cut": "(net, wire, name)", "tie": "(net, port, wire)",
+    },
+    "patterns": {
+        "pattern_fault": "(pattern)", "check_pattern": "(pattern)", "node_count": "(pattern)",
+        "names_of": "(pattern)", "holds": "(pattern, view, start, end)",
+        "stretches": "(pattern, view)",
+        "flags": "(pattern, view, *, from_start=False, sticky=False)",
+    },
+    "pattern_text": {"pattern_text": "(pattern)", "parse_pattern": "(text)"},
 }
 
 METHODS = {

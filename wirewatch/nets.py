@@ -159,7 +159,7 @@ def is_taken(net, name):
 
 
 def check_free(net, name):
-    """Raises NameTaken if the name is taken in the net."""
+    """Raises BadName, or NameTaken if the name is taken in the net."""
     if is_taken(net, name):
         raise NameTaken(name)
 

@@ -1,0 +1,68 @@
+"""Equal calls give equal answers, and no argument is changed (points 2 and 3)."""
+
+import copy
+import unittest
+
+from checks import CheckCase, kinds
+from samples import COUNTER
+from wirewatch import (diagrams, joining, logic, pattern_text, patterns, rewrite, runs, steps,
+                       timing)
+from wirewatch.words import Word
+
+XOR = (4, ((1, 0, 1), (1, 1, 0), (0, 2, 3)))
+OTHER = (("r1", "new"), (("p", "and", ("r1", "new")),), (("s", 1, "p"),), ("p", "s"))
+BUFS = (("a",), (("x", "buf", ("a",)), ("y", "and", ("x", "x"))), (("r", 0, "x"),), ("y",))
+SEE = ("see", (("a", 1), ("b", 0)))
+PATTERN = ("then", ("times", SEE, 0, None), ("not", ("within", ("fuse", SEE, ("see", ())), 2)))
+VIEW = (("b", "a"), ((0, 1), (0, 1), (1, 1), (1, 0)))
+
+CALLS = [
+    (logic.evaluate, COUNTER, (1,), (0, 1)), (logic.next_state, COUNTER, (1,), (0, 1)),
+    (logic.output_row, COUNTER, (1,), (0, 1)), (logic.wire_table, COUNTER, "hi"),
+    (logic.difference, COUNTER, COUNTER[:3] + (("r1", "r0", "lo", "up"),)),
+    (logic.is_difference, COUNTER, COUNTER, (1,), (0, 0)),
+    (diagrams.is_diagram, 2, XOR), (diagrams.diagram_of, Word(8, 0b01101001)),
+    (diagrams.diagram_table, 3, XOR), (diagrams.diagram_value, (1, 0, 1), XOR),
+    (diagrams.combine, 3, "or", XOR, (2, ((2, 0, 1),))), (diagrams.restrict, 3, XOR, 1, 1),
+    (diagrams.count_ones, 3, XOR), (diagrams.least_row, 3, XOR), (diagrams.canonical_net, COUNTER),
+    (steps.local_table, COUNTER, "hi"), (steps.steps, BUFS), (steps.apply_step, BUFS, ("skip", "y")),
+    (steps.price, BUFS), (rewrite.apply_chain, BUFS, (("skip", "y"), ("skip", "r"))),
+    (rewrite.trail, BUFS, (("skip", "y"), ("skip", "r"))), (rewrite.is_chain, BUFS, (), BUFS),
+    (rewrite.is_settled, BUFS), (rewrite.rewrite, BUFS),
+    (timing.with_enable, COUNTER, "en"), (timing.with_reset, COUNTER, "en"), (timing.unroll, COUNTER, 3),
+    (timing.after_row, COUNTER, (1,)), (timing.add_delay, COUNTER, "hi", 2, "d"),
+    (joining.join_nets, COUNTER, OTHER), (joining.with_outputs, COUNTER, ("hi",)),
+    (joining.cone, COUNTER, ("lo",)), (joining.cut, COUNTER, "lo", "n"), (joining.tie, OTHER, "new", "s"),
+    (patterns.pattern_fault, PATTERN), (patterns.pattern_fault, ("not", ("seen",))),
+    (patterns.check_pattern, PATTERN), (patterns.node_count, PATTERN), (patterns.names_of, PATTERN),
+    (patterns.holds, PATTERN, VIEW, 0, 3), (patterns.stretches, PATTERN, VIEW), (patterns.flags, PATTERN, VIEW),
+    (pattern_text.pattern_text, PATTERN), (pattern_text.parse_pattern, "[a !b]* ; ~([a !b] : [])@2"),
+]
+
+
+class RepeatsTest(CheckCase):
+    def test_calls(self):
+        for call, *args in CALLS:
+            with self.subTest(call.__name__):
+                before = copy.deepcopy(args)
+                first = call(*args)
+                due = copy.deepcopy(kinds(first))
+                if isinstance(first, dict):
+                    first.clear()
+                self.assertEqual(kinds(call(*args)), due)
+                self.assertEqual(kinds(call(*copy.deepcopy(before))), due)
+                self.same(args, before)
+
+    def test_runs(self):
+        rows = ((1,), (0,), (1,))
+        first, second = runs.run(COUNTER, rows), runs.run(COUNTER, rows)
+        first.at(0).clear()
+        self.same(first.rows, second.rows)
+        for tick in range(3):
+            self.same(first.at(tick), second.at(tick))
+            self.same(first.at(tick), first.at(tick))
+        self.same(first.view(("lo", "up")), second.view(("lo", "up")))
+
+
+if __name__ == "__main__":
+    unittest.main()
