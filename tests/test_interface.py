@@ -65,6 +65,29 @@ HEADINGS = {
         "flags": "(pattern, view, *, from_start=False, sticky=False)",
     },
     "pattern_text": {"pattern_text": "(pattern)", "parse_pattern": "(text)"},
+    "machines": {
+        "machine_fault": "(machine)", "check_machine": "(machine)",
+        "state_after": "(machine, letters)", "accepts": "(machine, letters)",
+        "least": "(machine)", "flip": "(machine)", "combine_machines": "(op, first, second)",
+        "turn": "(machine)", "widen": "(machine, names)", "shortest_row": "(machine)",
+        "telling_row": "(first, second)", "is_telling": "(first, second, letters)",
+        "count_rows": "(machine, length)", "letters_of": "(view)",
+    },
+    "making": {
+        "machine_of": "(pattern, *, names=None)",
+        "flag_machine": "(pattern, *, names=None, from_start=False, sticky=False)",
+    },
+    "watch": {
+        "watcher": "(machine, name, *, one_hot=False)",
+        "attach": "(net, pattern, name, *, from_start=False, sticky=False, one_hot=False)",
+        "plain_flags": "(net, pattern, stimulus, *, from_start=False, sticky=False)",
+        "machine_flags": "(net, pattern, stimulus, *, from_start=False, sticky=False)",
+        "machine_from": "(net, wire)",
+    },
+    "reach": {
+        "levels": "(net)", "reached": "(net)", "path_to": "(net, state)",
+        "is_path": "(net, stimulus, state)",
+    },
 }
 
 METHODS = {

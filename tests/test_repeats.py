@@ -5,8 +5,8 @@ import unittest
 
 from checks import CheckCase, kinds
 from samples import COUNTER
-from wirewatch import (diagrams, joining, logic, pattern_text, patterns, rewrite, runs, steps,
-                       timing)
+from wirewatch import (diagrams, joining, logic, machines, making, pattern_text, patterns, reach,
+                       rewrite, runs, steps, timing, watch)
 from wirewatch.words import Word
 
 XOR = (4, ((1, 0, 1), (1, 1, 0), (0, 2, 3)))
@@ -15,6 +15,9 @@ BUFS = (("a",), (("x", "buf", ("a",)), ("y", "and", ("x", "x"))), (("r", 0, "x")
 SEE = ("see", (("a", 1), ("b", 0)))
 PATTERN = ("then", ("times", SEE, 0, None), ("not", ("within", ("fuse", SEE, ("see", ())), 2)))
 VIEW = (("b", "a"), ((0, 1), (0, 1), (1, 1), (1, 0)))
+UPS = ((1,), (0,), (1,), (1,))
+UP = ("then", ("see", (("up", 1),)), ("see", (("up", 0), ("lo", 1))))
+MACHINE = (("a", "b"), ((0, 1, 0, 2), (1, 2, 2, 0), (2, 2, 1, 0)), (0, 1, 1))
 
 CALLS = [
     (logic.evaluate, COUNTER, (1,), (0, 1)), (logic.next_state, COUNTER, (1,), (0, 1)),
@@ -37,6 +40,17 @@ CALLS = [
     (patterns.check_pattern, PATTERN), (patterns.node_count, PATTERN), (patterns.names_of, PATTERN),
     (patterns.holds, PATTERN, VIEW, 0, 3), (patterns.stretches, PATTERN, VIEW), (patterns.flags, PATTERN, VIEW),
     (pattern_text.pattern_text, PATTERN), (pattern_text.parse_pattern, "[a !b]* ; ~([a !b] : [])@2"),
+    (machines.machine_fault, MACHINE), (machines.machine_fault, (("a",), (), ())), (machines.check_machine, MACHINE),
+    (machines.state_after, MACHINE, (3, 1)), (machines.accepts, MACHINE, (3, 1)), (machines.least, MACHINE),
+    (machines.flip, MACHINE), (machines.combine_machines, "xor", MACHINE, MACHINE[:2] + ((1, 1, 0),)),
+    (machines.turn, MACHINE), (machines.widen, MACHINE, ("c", "b", "a")), (machines.shortest_row, MACHINE),
+    (machines.telling_row, MACHINE, MACHINE[:2] + ((0, 0, 1),)), (machines.is_telling, MACHINE, MACHINE, (1, 2)),
+    (machines.count_rows, MACHINE, 60), (machines.letters_of, VIEW),
+    (making.machine_of, PATTERN), (making.flag_machine, PATTERN),
+    (watch.watcher, MACHINE, "n"), (watch.attach, COUNTER, UP, "n"), (watch.plain_flags, COUNTER, UP, UPS),
+    (watch.machine_flags, COUNTER, UP, UPS), (watch.machine_from, COUNTER, "hi"),
+    (reach.levels, COUNTER), (reach.reached, COUNTER), (reach.path_to, COUNTER, (1, 1)),
+    (reach.is_path, COUNTER, UPS, (1, 1)),
 ]
 
 
