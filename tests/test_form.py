@@ -133,6 +133,9 @@ class FormTest(unittest.TestCase):
                                if any(ast.unparse(mark) == "property" for mark in node.decorator_list)}
         self.assertIn("last_state", properties)
         self.assertFalse(properties & assigned)
+        methods = {node.name for _, tree in trees() for part in tree.body if isinstance(part, ast.ClassDef)
+                   for node in functions(part)}
+        self.assertFalse(methods & assigned)
 
     def test_each_name_is_bound_once(self):
         for name, tree in trees():

@@ -88,6 +88,29 @@ HEADINGS = {
         "levels": "(net)", "reached": "(net)", "path_to": "(net, state)",
         "is_path": "(net, stimulus, state)",
     },
+    "always": {
+        "never": "(net, wire)", "failing_run": "(net, wire)", "is_failing": "(net, wire, stimulus)",
+        "safe_states": "(net, wire)", "is_invariant": "(net, wire, states)",
+        "find_layers": "(net, wire)", "is_layers": "(net, wire, layers)", "rounds": "(net, wire)",
+        "is_inductive": "(net, wire, count)", "run_difference": "(first, second)",
+        "is_run_difference": "(first, second, stimulus)",
+    },
+    "moving": {
+        "find_moves": "(net)", "move_forward": "(net, wire, name)",
+        "move_back": "(net, wire, name)", "apply_moves": "(net, moves)",
+    },
+    "sharing": {
+        "register_classes": "(net)", "is_register_classes": "(net, classes)",
+        "merge_registers": "(net)", "share_gates": "(net)",
+    },
+    "stimuli": {
+        "stimulus_text": "(inputs, stimulus)", "parse_stimulus": "(text)",
+        "record_of": "(net, stimulus)", "record_text": "(record)", "parse_record": "(text)",
+        "replay": "(net, record)", "reductions": "(stimulus)", "is_below": "(small, large)",
+        "is_smallest": "(net, wire, stimulus)", "shrink": "(net, wire, stimulus)",
+        "coverage": "(net, stimuli)",
+    },
+    "bench": {"Bench": "(net)"},
 }
 
 METHODS = {
@@ -100,6 +123,14 @@ METHODS = {
         "put": "(self, state)", "step": "(self, row)", "peek": "(self, row, wire)",
         "back": "(self, count)",
     },
+    "stimuli.Coverage": {},
+    "bench.Bench": {
+        "feed": "(self, row)",
+        "watch": "(self, name, pattern, *, from_start=False, sticky=False)",
+        "unwatch": "(self, name)", "flags": "(self, name)", "undo": "(self)", "redo": "(self)",
+        "record": "(self)", "circuit": "(self, *, one_hot=False)", "coverage": "(self)",
+        "undo_to": "(self, count)",
+    },
 }
 # Each of these is defined in the class itself, as the methods above are.
 OWN = {
@@ -108,7 +139,12 @@ OWN = {
                    "__iter__", "__str__"),
     "runs.Run": ("last_state", "__len__", "__iter__", "__getitem__"),
     "runs.Simulator": ("state", "tick"),
+    "stimuli.Coverage": ("__len__", "__contains__", "__or__", "__eq__", "__ne__"),
+    "bench.Bench": ("stimulus", "current", "names", "done", "__len__", "__iter__", "__getitem__"),
 }
+PROPERTIES = (("words.Word", "ones"), ("runs.Run", "last_state"), ("runs.Simulator", "state"),
+              ("runs.Simulator", "tick"), ("bench.Bench", "stimulus"), ("bench.Bench", "current"),
+              ("bench.Bench", "names"), ("bench.Bench", "done"))
 
 
 def class_of(place):
@@ -139,9 +175,14 @@ class InterfaceTest(unittest.TestCase):
                 self.assertIn(name, vars(class_of(place)), place)
 
     def test_properties(self):
-        for place, name in (("words.Word", "ones"), ("runs.Run", "last_state"),
-                            ("runs.Simulator", "state"), ("runs.Simulator", "tick")):
+        for place, name in PROPERTIES:
             self.assertIsInstance(vars(class_of(place))[name], property)
+
+    def test_attributes(self):
+        stimuli = importlib.import_module("wirewatch.stimuli")
+        for found in (stimuli.coverage(((), (), (), ()), ()), stimuli.coverage((("a",), (), (), ()), ((),))):
+            for name in ("seen", "missing", "visited"):
+                self.assertIn(name, vars(found))
 
 
 if __name__ == "__main__":

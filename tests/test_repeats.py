@@ -5,8 +5,8 @@ import unittest
 
 from checks import CheckCase, kinds
 from samples import COUNTER
-from wirewatch import (diagrams, joining, logic, machines, making, pattern_text, patterns, reach,
-                       rewrite, runs, steps, timing, watch)
+from wirewatch import (always, bench, diagrams, joining, logic, machines, making, moving,
+                       pattern_text, patterns, reach, rewrite, runs, sharing, steps, stimuli, timing, watch)
 from wirewatch.words import Word
 
 XOR = (4, ((1, 0, 1), (1, 1, 0), (0, 2, 3)))
@@ -18,6 +18,9 @@ VIEW = (("b", "a"), ((0, 1), (0, 1), (1, 1), (1, 0)))
 UPS = ((1,), (0,), (1,), (1,))
 UP = ("then", ("see", (("up", 1),)), ("see", (("up", 0), ("lo", 1))))
 MACHINE = (("a", "b"), ((0, 1, 0, 2), (1, 2, 2, 0), (2, 2, 1, 0)), (0, 1, 1))
+# Two registers change places, and a gate that is 1 where both are.
+HELD = ((), (("k", "and", ("r", "s")),), (("r", 1, "s"), ("s", 0, "r"), ("t", 0, "k")), ("k",))
+ALIKE = (("a",), (("g", "and", ("a", "r")), ("h", "and", ("s", "a"))), (("r", 0, "g"), ("s", 0, "h")), ("h", "s"))
 
 CALLS = [
     (logic.evaluate, COUNTER, (1,), (0, 1)), (logic.next_state, COUNTER, (1,), (0, 1)),
@@ -51,6 +54,22 @@ CALLS = [
     (watch.machine_flags, COUNTER, UP, UPS), (watch.machine_from, COUNTER, "hi"),
     (reach.levels, COUNTER), (reach.reached, COUNTER), (reach.path_to, COUNTER, (1, 1)),
     (reach.is_path, COUNTER, UPS, (1, 1)),
+    (always.never, COUNTER, "hi"), (always.failing_run, COUNTER, "hi"), (always.is_failing, COUNTER, "hi", UPS),
+    (always.safe_states, HELD, "k"), (always.is_invariant, HELD, "k", ((1, 0, 0), (0, 1, 0))),
+    (always.find_layers, HELD, "k"), (always.is_layers, HELD, "k", (((1, 0, 0),), ((0, 1, 0),))),
+    (always.rounds, HELD, "k"), (always.is_inductive, HELD, "k", 3),
+    (always.run_difference, COUNTER, COUNTER[:3] + (("r1", "r0", "lo", "up"),)),
+    (always.is_run_difference, COUNTER, COUNTER, UPS),
+    (moving.find_moves, COUNTER), (moving.move_forward, HELD, "k", "n"), (moving.move_back, COUNTER, "r1", "n"),
+    (moving.apply_moves, COUNTER, (("back", "r1", "n"), ("back", "r0", "m"))),
+    (sharing.register_classes, ALIKE), (sharing.is_register_classes, ALIKE, (("r", "s"),)),
+    (sharing.merge_registers, ALIKE), (sharing.share_gates, ALIKE),
+    (stimuli.stimulus_text, ("up",), UPS), (stimuli.parse_stimulus, "in up\n1 * 12\n0\n"),
+    (stimuli.record_of, COUNTER, UPS), (stimuli.record_text, stimuli.record_of(COUNTER, UPS)),
+    (stimuli.parse_record, "in a\nout b\n1 0\n"), (stimuli.replay, COUNTER, stimuli.record_of(COUNTER, UPS)),
+    (stimuli.replay, COUNTER, (("up",), COUNTER[3], (((1,), (1, 0, 0, 1)),))),
+    (stimuli.reductions, UPS), (stimuli.is_below, UPS[1:], UPS), (stimuli.is_smallest, COUNTER, "lo", UPS[:1]),
+    (stimuli.shrink, COUNTER, "lo", ((1,), (1,), (1,))),
 ]
 
 
@@ -76,6 +95,26 @@ class RepeatsTest(CheckCase):
             self.same(first.at(tick), second.at(tick))
             self.same(first.at(tick), first.at(tick))
         self.same(first.view(("lo", "up")), second.view(("lo", "up")))
+
+    def test_coverages(self):
+        first, second = stimuli.coverage(COUNTER, (UPS, ())), stimuli.coverage(COUNTER, (UPS, ()))
+        shown = kinds((first.seen, first.missing, first.visited))
+        self.assertEqual(kinds((second.seen, second.missing, second.visited)), shown)
+        both = first | stimuli.coverage(COUNTER, (UPS * 3,))
+        self.assertEqual(kinds((both.seen, both.missing, both.visited)),
+                         kinds(((first | both).seen, (both | first).missing, (both | both).visited)))
+        self.assertEqual(kinds((first.seen, first.missing, first.visited)), shown)
+
+    def test_benches(self):
+        first, second = bench.Bench(COUNTER), bench.Bench(COUNTER)
+        for row in UPS:
+            self.same(first.feed(row), second.feed(row))
+        for made in (first, second):
+            made.watch("w", UP)
+        for show in (lambda made: (made.stimulus, made.current, made.names, made.done, made.flags("w")),
+                     lambda made: (made.record(), made.circuit(), made["hi"], tuple(made), len(made))):
+            self.same(show(first), show(second))
+            self.same(show(first), show(first))
 
 
 if __name__ == "__main__":

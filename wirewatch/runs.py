@@ -88,8 +88,8 @@ class Simulator:
 
     def __init__(self, net, *, state=None):
         self.net = net
-        self.circuit = Circuit(net)
-        self.now = begun_state(self.circuit, state)
+        self.played = Circuit(net)
+        self.now = begun_state(self.played, state)
         # The states just before the steps, one for each tick before the current one.
         self.past = []
 
@@ -111,16 +111,16 @@ class Simulator:
     def step(self, row):
         """Goes on to the next tick. Returns the output row."""
         check_row(row, len(self.net[0]))
-        values = self.circuit.spread(row, self.now)
+        values = self.played.spread(row, self.now)
         self.past.append(self.now)
-        self.now = self.circuit.next_values(values)
-        return self.circuit.output_values(values)
+        self.now = self.played.next_values(values)
+        return self.played.output_values(values)
 
     def peek(self, row, wire):
         """The value of the wire at the row and the current state."""
         check_row(row, len(self.net[0]))
         check_declared(self.net, wire)
-        return self.circuit.spread(row, self.now)[wire]
+        return self.played.spread(row, self.now)[wire]
 
     def back(self, count):
         """Goes back by `count` ticks, to the state before the step that was made there."""
