@@ -90,6 +90,10 @@ class FormTest(unittest.TestCase):
                                              ast.ClassDef, ast.Assign), name)
                 if isinstance(node, ast.Expr):
                     self.assertIs(node, tree.body[0], name)
+                if isinstance(node, ast.Assign):
+                    own = {part.name for part in functions(tree)}
+                    used = {part.id for part in ast.walk(node.value) if isinstance(part, ast.Name)}
+                    self.assertLessEqual(used, own, name)
 
     def test_decorators(self):
         for name, tree in trees():

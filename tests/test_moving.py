@@ -42,6 +42,11 @@ class FindTest(CheckCase):
             net = random_net(source, source.randrange(3), source.randrange(10), source.randrange(6))
             self.same(find_moves(net), moves_of(net))
 
+    def test_nets_that_are_not_sound(self):
+        self.fails(BadNet("unknown", "q"), find_moves, FAULT)
+        self.fails(BadNet("ring", "x"), find_moves, RING)
+        self.fails(BadNet("twice", "x"), find_moves, FAULT_AND_RING)
+
     def test_what_is_found_is_what_is_possible(self):
         source = random.Random(2)
         for _ in range(60):

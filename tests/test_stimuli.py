@@ -5,15 +5,18 @@ import random
 import unittest
 
 from checks import CheckCase
+from plain_patterns import random_pattern
 from plain_stimuli import (all_below, plain_coverage, plain_fails, plain_reductions, plain_smallest,
                            plain_stimulus_text)
 from samples import (BIG, COUNTER, EMPTY, FAULT, FAULT_AND_RING, RING, plain_outputs, plain_run,
                      random_net, random_row, random_stimulus, rows_of, wide_net, wires_of)
 from wirewatch.always import failing_run
 from wirewatch.errors import BadNet, BadRow, BadText, Mismatch, NotFailing, TooLarge, UnknownWire
+from wirewatch.pattern_text import parse_pattern
 from wirewatch.stimuli import (Coverage, coverage, is_below, is_smallest, parse_record,
                                parse_stimulus, record_of, record_text, reductions, replay, shrink,
                                stimulus_text)
+from wirewatch.watch import attach
 
 ONE, NONE = (1,), ()
 # `late` is 1 at a tick behind two ticks at which `a` is 1, while `b` is 1.
@@ -333,6 +336,37 @@ class ShrinkTest(CheckCase):
             least = failing_run(net, wire)
             if len(least) <= 12:
                 self.same(shrink(net, wire, least), least)
+
+    def test_where_earlier_ticks_matter(self):
+        # A flag behind `a`, then `b` at the next tick, then anything, then both.
+        free = (("a", "b"), (), (), ())
+        joined = attach(free, parse_pattern("[a] ; [b] ; []* ; [a b]"), "w")
+        a, b, none, both = (1, 0), (0, 1), (0, 0), (1, 1)
+        for stimulus, due in [((a, b, none, both), (a, b, both)), ((a, b, none, none, both), (a, b, both)),
+                              ((none, both, a, both, both, none, both), None), ((a, b, both), (a, b, both))]:
+            self.same(is_smallest(joined, "w.flag", stimulus), plain_smallest(joined, "w.flag", stimulus))
+            found = shrink(joined, "w.flag", stimulus)
+            self.same(found, due or (a, b, both))
+
+    def test_flags(self):
+        source = random.Random(9)
+        free = (("a", "b"), (("x", "or", ("a", "r")),), (("r", 0, "b"),), ())
+        failing = 0
+        for _ in range(150):
+            node = random_pattern(source, source.randrange(3, 9), ("a", "b", "x"))
+            try:
+                joined = attach(free, node, "w", from_start=source.randrange(2) == 0)
+            except TooLarge:
+                continue
+            for _ in range(6):
+                stimulus = random_stimulus(source, free, source.randrange(3, 7))
+                self.same(is_smallest(joined, "w.flag", stimulus), plain_smallest(joined, "w.flag", stimulus))
+                if plain_fails(joined, "w.flag", stimulus):
+                    failing += 1
+                    found = shrink(joined, "w.flag", stimulus)
+                    self.assertTrue(plain_smallest(joined, "w.flag", found))
+                    self.same(is_below(found, stimulus), True)
+        self.assertGreater(failing, 100)
 
     def test_a_large_net(self):
         net = wide_net(gates=1000, regs=50)

@@ -8,8 +8,8 @@ from wirewatch.making import flag_machine
 from wirewatch.nets import check_declared, check_name, declared_wires, is_among
 from wirewatch.patterns import check_pattern, names_of
 from wirewatch.rows import check_row
-from wirewatch.stimuli import TICKS, coverage
-from wirewatch.walks import check_most
+from wirewatch.runs import check_ticks
+from wirewatch.stimuli import coverage
 from wirewatch.watch import shown_flags, watcher
 
 
@@ -63,7 +63,7 @@ class Bench:
     def feed(self, row):
         """Plays one tick. Returns its output row."""
         check_row(row, len(self.net[0]))
-        check_most(len(self.fed) + 1, TICKS)
+        check_ticks(len(self.fed) + 1)
         self.begin((row, self.watches, self.watches))
         return self.outs[-1]
 

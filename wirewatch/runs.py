@@ -8,11 +8,16 @@ from wirewatch.rows import check_row, check_rows
 MOST_TICKS = 300
 
 
+def check_ticks(count, most=MOST_TICKS):
+    """Raises TooLarge if these are more than `most` ticks."""
+    if count > most:
+        raise TooLarge("ticks", most)
+
+
 def check_stimulus(stimulus, count, most=MOST_TICKS):
     """Raises BadRow for the first wrong row, then TooLarge for more than `most` rows."""
     check_rows(stimulus, count)
-    if len(stimulus) > most:
-        raise TooLarge("ticks", most)
+    check_ticks(len(stimulus), most)
 
 
 def begun_state(circuit, state):

@@ -8,14 +8,11 @@ from wirewatch.nets import DIGITS, check_declared, check_net, declared_wires, is
 from wirewatch.order import check_sound
 from wirewatch.reader import lines_text, read_list
 from wirewatch.rows import check_row
-from wirewatch.runs import MOST_TICKS, check_stimulus, run
-from wirewatch.walks import check_most
+from wirewatch.runs import check_stimulus, check_ticks, run
 
 MOST_REPEATS = 99
 
 MOST_REDUCED = 12
-
-TICKS = ("ticks", MOST_TICKS)
 
 
 def check_wires(wires):
@@ -43,7 +40,7 @@ def take_row(line, count):
 
 def is_repeats(text):
     """True if the text tells how many equal rows there are, otherwise False."""
-    return (1 <= len(text) <= len(str(MOST_REPEATS)) and text[0] != "0"
+    return (len(text) <= len(str(MOST_REPEATS)) and text[0] != "0"
             and all([sign in DIGITS for sign in text]))
 
 
@@ -98,7 +95,7 @@ def parse_stimulus(text):
     rows = []
     while source.has_line():
         rows.extend(read_equal_rows(source.next_line(), len(inputs)))
-    check_most(len(rows), TICKS)
+    check_ticks(len(rows))
     return inputs, tuple(rows)
 
 
@@ -108,13 +105,13 @@ def record_of(net, stimulus):
     return net[0], net[3], tuple(zip(stimulus, played.rows))
 
 
-def check_ticks(record):
+def check_record(record):
     """Raises BadRow or TooLarge for the ticks of the record."""
     inputs, outputs, ticks = record
     for row, outs in ticks:
         check_row(row, len(inputs))
         check_row(outs, len(outputs))
-    check_most(len(ticks), TICKS)
+    check_ticks(len(ticks))
 
 
 def record_text(record):
@@ -122,7 +119,7 @@ def record_text(record):
     inputs, outputs, ticks = record
     check_wires(inputs)
     check_wires(outputs)
-    check_ticks(record)
+    check_record(record)
     lines = [["in", *inputs], ["out", *outputs]]
     lines.extend([[row_token(row), row_token(outs)] for row, outs in ticks])
     return lines_text(lines)
@@ -139,14 +136,14 @@ def parse_record(text):
         row = take_row(line, len(inputs))
         ticks.append((row, take_row(line, len(outputs))))
         line.finish()
-    check_most(len(ticks), TICKS)
+    check_ticks(len(ticks))
     return inputs, outputs, tuple(ticks)
 
 
 def replay(net, record):
     """None, or the first tick and the first output at which the run differs from the record."""
     check_sound(net)
-    check_ticks(record)
+    check_record(record)
     inputs, outputs, ticks = record
     if inputs != net[0]:
         raise Mismatch("inputs")
@@ -169,7 +166,7 @@ def check_bits(rows):
 def reductions(stimulus):
     """The reductions of the stimulus."""
     check_bits(stimulus)
-    check_most(len(stimulus), ("ticks", MOST_REDUCED))
+    check_ticks(len(stimulus), MOST_REDUCED)
     found = [stimulus[:tick] + stimulus[tick + 1:] for tick in range(len(stimulus))]
     for tick, row in enumerate(stimulus):
         for index, bit in enumerate(row):
@@ -188,7 +185,7 @@ def is_below(small, large):
     """True if the stimulus `small` is below the stimulus `large`, otherwise False."""
     for stimulus in (small, large):
         check_bits(stimulus)
-        check_most(len(stimulus), TICKS)
+        check_ticks(len(stimulus))
     # To take the first row that fits leaves the most rows for what follows.
     found = 0
     for row in large:
