@@ -2,6 +2,11 @@
 
 from samples import plain_next, plain_values, rows_of
 
+# A ring of three registers without an input, with one 1.
+ROUND = ((), (), (("x", 1, "z"), ("y", 0, "x"), ("z", 0, "y")), ("x",))
+# A state that is not reached: `t` is 1 only if it was.
+STUCK = (("a",), (("g", "and", ("a", "t")),), (("r", 0, "a"), ("t", 0, "g")), ())
+
 
 def first_of(net):
     return tuple(reg[1] for reg in net[2])

@@ -5,10 +5,10 @@ import random
 import unittest
 
 from checks import CheckCase
-from plain_reach import (all_states, fails_at, first_of, nexts, plain_levels, row_key, stimulus_key)
+from plain_reach import (ROUND, STUCK, all_states, fails_at, first_of, nexts, plain_levels, row_key,
+                         stimulus_key)
 from samples import (BIG, COUNTER, EMPTY, FAULT, FAULT_AND_RING, RING, plain_outputs, plain_run,
                      random_net, random_stimulus, rows_of, wires_of)
-from test_reach import ROUND, STUCK
 from wirewatch.always import (failing_run, find_layers, is_failing, is_inductive, is_invariant,
                               is_layers, is_run_difference, never, rounds, run_difference,
                               safe_states)

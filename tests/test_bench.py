@@ -5,11 +5,11 @@ import time
 import unittest
 
 from checks import CheckCase
+from limits import FROM_MARKED, FUSE_201, OPTIONS, THEN_201, pattern
 from plain_patterns import (ANY, EMPTY as EMPTY_NODE, NEVER, NOT_A, SEE_A, SEE_B, Plain, chain_of,
                             random_pattern, tree_of)
 from samples import (COUNTER, EMPTY, FAULT, FAULT_AND_RING, RING, plain_outputs, plain_run,
                      random_net, random_row, random_stimulus, wires_of)
-from test_making import FROM_MARKED, FUSE_201, OPTIONS, THEN_201, pattern
 from wirewatch.bench import Bench
 from wirewatch.errors import (BadIndex, BadName, BadNet, BadPattern, BadRow, NameTaken, NothingLeft,
                               TooLarge, UnknownName, UnknownWire)

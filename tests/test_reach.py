@@ -5,17 +5,14 @@ import random
 import unittest
 
 from checks import CheckCase
-from plain_reach import all_states, first_of, least_paths, plain_levels, row_key, stimulus_key
+from plain_reach import (ROUND, STUCK, all_states, first_of, least_paths, plain_levels, row_key,
+                         stimulus_key)
 from samples import (BIG, COUNTER, EMPTY, FAULT, FAULT_AND_RING, RING, plain_run, random_net,
                      random_stimulus, rows_of, wide_net)
 from wirewatch.errors import BadNet, BadRow, TooLarge
 from wirewatch.reach import is_path, levels, path_to, reached
 
 NET = (("a", "b"), (("g", "or", ("a", "b")),), (("r", 0, "g"),), ("r",))
-# A ring of three registers without an input, with one 1.
-ROUND = ((), (), (("x", 1, "z"), ("y", 0, "x"), ("z", 0, "y")), ("x",))
-# A state that is not reached: `t` is 1 only if it was.
-STUCK = (("a",), (("g", "and", ("a", "t")),), (("r", 0, "a"), ("t", 0, "g")), ())
 
 
 def small_nets(seed, count):

@@ -4,13 +4,13 @@ import random
 import unittest
 
 from checks import CheckCase
+from limits import FROM_MARKED, FUSE_201, OPTIONS, THEN_201, pattern
 from plain_machines import (LAST, LOOSE, ODD, ODD_LENGTH, cycle, last_letters, least_of, letter_rows,
                             plain_accepts, plain_least, random_machine, row_of)
 from plain_patterns import (ANY, EMPTY as EMPTY_NODE, NEVER, NOT_A, SEE_A, SEE_B, Plain, chain_of,
                             random_pattern, tree_of)
 from samples import (BIG, COUNTER, EMPTY, FAULT, FAULT_AND_RING, RING, plain_run, plain_values,
                      random_net, random_stimulus, rows_of)
-from test_making import FROM_MARKED, FUSE_201, OPTIONS, THEN_201, pattern
 from wirewatch.errors import (BadMachine, BadName, BadNet, BadPattern, BadRow, NameTaken, TooLarge,
                               UnknownWire)
 from wirewatch.joining import join_nets

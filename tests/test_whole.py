@@ -6,9 +6,9 @@ import random
 import unittest
 
 from checks import CheckCase
+from limits import OPTIONS
 from plain_patterns import Plain, random_pattern
 from samples import plain_run, random_net, random_stimulus, wires_of
-from test_making import OPTIONS
 from wirewatch.always import failing_run, is_run_difference, never, run_difference
 from wirewatch.bench import Bench
 from wirewatch.diagrams import canonical_net
